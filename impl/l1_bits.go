@@ -82,6 +82,15 @@ func (w *bitWriter) put(value uint64, bits int) {
 	}
 }
 
+// toByte leaves what is left of the byte that was begun.
+func (w *bitWriter) toByte() {
+	w.room = 0
+}
+
+func (r *bitReader) toByte() {
+	r.at = (r.at + 7) / 8 * 8
+}
+
 // holds asks without adding to at, which may be as great as an int can be.
 func (r *bitReader) holds(bits int) bool {
 	return goodWidth(bits) && r.at >= 0 && r.at <= 8*len(r.data)-bits

@@ -446,8 +446,9 @@ func TestDecodePhotoOfTooManyBytes(t *testing.T) {
 	}
 }
 
-func TestDecodePhotoOfTheFirstBytes(t *testing.T) {
-	file := impl.EncodePhoto(smallPhoto())
+// checkFirstBytes asks a reader of files for the error of other first bytes than a file's four, and of fewer.
+func checkFirstBytes(t *testing.T, file []byte, check func(what string, data []byte, err int)) {
+	t.Helper()
 	for at := range 4 {
 		for b := range 256 {
 			data := slices.Clone(file)
@@ -456,15 +457,21 @@ func TestDecodePhotoOfTheFirstBytes(t *testing.T) {
 			if data[at] == file[at] {
 				want = 0
 			} else {
-				checkPhotoFile(t, "first bytes, nothing behind", data[:at+1], want)
+				check("first bytes, nothing behind", data[:at+1], want)
 			}
-			checkPhotoFile(t, "first bytes", data, want)
+			check("first bytes", data, want)
 		}
-		checkPhotoFile(t, "first bytes alone", file[:at], impl.ErrShort)
+		check("first bytes alone", file[:at], impl.ErrShort)
 	}
-	checkPhotoFile(t, "nothing", nil, impl.ErrShort)
-	checkPhotoFile(t, "an empty list", []byte{}, impl.ErrShort)
-	checkPhotoFile(t, "another file's first bytes", []byte("MOV1"), impl.ErrCode)
+	check("nothing", nil, impl.ErrShort)
+	check("an empty list", []byte{}, impl.ErrShort)
+	check("another file's first bytes", []byte("MOV1"), impl.ErrCode)
+}
+
+func TestDecodePhotoOfTheFirstBytes(t *testing.T) {
+	checkFirstBytes(t, impl.EncodePhoto(smallPhoto()), func(what string, data []byte, err int) {
+		checkPhotoFile(t, what, data, err)
+	})
 }
 
 // checkHead asks for the error of a head: cut at each byte, alone, and with more behind it.
@@ -1150,10 +1157,10 @@ func TestDecodePhotoOfFilesCutAtEachByte(t *testing.T) {
 	}
 }
 
-// checkMet asks whether hurt files met all errors that they may.
-func checkMet(t *testing.T, met map[int]int) {
+// checkMet asks whether hurt files met all these errors.
+func checkMet(t *testing.T, met map[int]int, errs ...int) {
 	t.Helper()
-	for _, err := range []int{0, impl.ErrShort, impl.ErrCode, impl.ErrRange, impl.ErrMore} {
+	for _, err := range errs {
 		if met[err] == 0 {
 			t.Errorf("error %d was not met: %v", err, met)
 		}
@@ -1176,7 +1183,7 @@ func TestDecodePhotoOfEachBitTurned(t *testing.T) {
 			met[checkAnyPhotoFile(t, "a bit turned", data).Err]++
 		}
 	}
-	checkMet(t, met)
+	checkMet(t, met, 0, impl.ErrShort, impl.ErrCode, impl.ErrRange, impl.ErrMore)
 }
 
 func TestDecodePhotoOfHurtFiles(t *testing.T) {
@@ -1194,7 +1201,18 @@ func TestDecodePhotoOfHurtFiles(t *testing.T) {
 		}
 		met[checkAnyPhotoFile(t, "a hurt file", hurt(r, file)).Err]++
 	}
-	checkMet(t, met)
+	checkMet(t, met, 0, impl.ErrShort, impl.ErrCode, impl.ErrRange, impl.ErrMore)
+}
+
+// sparseBytes have more bits 0 than bits 1.
+func sparseBytes(r *rand.Rand, many int) []byte {
+	data := someBytes(r, many)
+	for i := range data {
+		if r.IntN(3) > 0 {
+			data[i] &= byte(r.IntN(256)) & 0x3F
+		}
+	}
+	return data
 }
 
 // Bytes of any kind behind a head and codes that are good.
@@ -1206,12 +1224,7 @@ func TestDecodePhotoOfAnyBytes(t *testing.T) {
 		if !p.Steps {
 			p.Every = r.IntN(3)
 		}
-		bytes := someBytes(r, r.IntN(100))
-		for i := range bytes {
-			if r.IntN(3) > 0 {
-				bytes[i] &= byte(r.IntN(256)) & 0x3F
-			}
-		}
+		bytes := sparseBytes(r, r.IntN(100))
 		checkAnyPhotoFile(t, "any bytes", slices.Concat(plainFile(p), bytes))
 		checkAnyPhotoFile(t, "any bytes alone", slices.Concat([]byte("PHO1"), bytes))
 	}

@@ -11,15 +11,20 @@ import (
 	"loop.example/g00016/impl"
 )
 
-// A soundWalker goes through a file bit by bit, by the document's words.
+// A bitWalker goes through a file bit by bit.
+type bitWalker struct {
+	data []byte
+	at   int
+}
+
+// A soundWalker does so by the document's words.
 type soundWalker struct {
-	data  []byte
-	at    int
+	bitWalker
 	sound impl.Sound
 	many  int
 }
 
-func (w *soundWalker) bit() int {
+func (w *bitWalker) bit() int {
 	if w.at == 8*len(w.data) {
 		panic(impl.ErrShort)
 	}
@@ -27,7 +32,7 @@ func (w *soundWalker) bit() int {
 	return int(w.data[(w.at-1)/8]>>(7-(w.at-1)%8)) & 1
 }
 
-func (w *soundWalker) number(bits int) int {
+func (w *bitWalker) number(bits int) int {
 	n := 0
 	for range bits {
 		n = 2*n + w.bit()
@@ -132,7 +137,7 @@ func (w *soundWalker) keep(f toldFrame, long int) {
 }
 
 func slowDecodeSound(data []byte) impl.SoundRes {
-	w := soundWalker{data: data}
+	w := soundWalker{bitWalker: bitWalker{data: data}}
 	err := codeOfPanic(func() {
 		w.head()
 		for left := w.many; left > 0; left -= w.sound.Frame {
@@ -238,17 +243,9 @@ func TestDecodeSoundByHand(t *testing.T) {
 }
 
 func TestDecodeSoundOfTooManyBytes(t *testing.T) {
-	file := impl.EncodeSound(smallSound())
-	for _, c := range []struct{ many, err int }{{59999, impl.ErrMore}, {60000, impl.ErrMore}, {60001, impl.ErrForm}, {70000, impl.ErrForm}} {
-		data := slices.Concat(file, make([]byte, c.many-len(file)))
-		checkSoundFile(t, strconv.Itoa(c.many)+" bytes", data, c.err)
-		data[0] = 0
-		want := impl.ErrCode
-		if c.many > 60000 {
-			want = impl.ErrForm
-		}
-		checkSoundFile(t, strconv.Itoa(c.many)+" other bytes", data, want)
-	}
+	checkTooMany(t, impl.EncodeSound(smallSound()), func(what string, data []byte, err int) {
+		checkSoundFile(t, what, data, err)
+	})
 }
 
 func TestDecodeSoundOfTheFirstBytes(t *testing.T) {
@@ -665,13 +662,7 @@ func TestDecodeSoundOfFilesCutAtEachByte(t *testing.T) {
 	}
 	for _, s := range list {
 		file := impl.EncodeSound(s)
-		for many := range min(len(file), 300) {
-			checkSoundFile(t, "cut to "+strconv.Itoa(many), file[:many], impl.ErrShort)
-			checkSoundFile(t, "cut by "+strconv.Itoa(many+1), file[:len(file)-many-1], impl.ErrShort)
-		}
-		for _, more := range [][]byte{{0}, {255}, {0, 0}, []byte("SND1"), make([]byte, 300)} {
-			checkSoundFile(t, "more", slices.Concat(file, more), impl.ErrMore)
-		}
+		checkCutFile(file, func(what string, data []byte, err int) { checkSoundFile(t, what, data, err) })
 	}
 }
 

@@ -431,19 +431,36 @@ func smallPhoto() impl.Photo {
 	return p
 }
 
-func TestDecodePhotoOfTooManyBytes(t *testing.T) {
-	file := impl.EncodePhoto(smallPhoto())
-	for _, c := range []struct{ many, err int }{{60000, impl.ErrMore}, {60001, impl.ErrForm}, {70000, impl.ErrForm}} {
-		data := slices.Concat(file, make([]byte, c.many-len(file)))
-		checkPhotoFile(t, strconv.Itoa(c.many)+" bytes", data, c.err)
-		data[0] = 0
-		want := impl.ErrCode
-		if c.many > 60000 {
-			want = impl.ErrForm
+// checkTooMany asks a reader of files for the error of more bytes than a file's, and of more than a file may have.
+func checkTooMany(t *testing.T, file []byte, check func(what string, data []byte, err int)) {
+	t.Helper()
+	for _, many := range []int{59999, 60000, 60001, 70000} {
+		more, other := impl.ErrMore, impl.ErrCode
+		if many > 60000 {
+			more, other = impl.ErrForm, impl.ErrForm
 		}
-		checkPhotoFile(t, strconv.Itoa(c.many)+" other bytes", data, want)
-		checkPhotoFile(t, strconv.Itoa(c.many)+" bytes of 0", make([]byte, c.many), want)
+		data := slices.Concat(file, make([]byte, many-len(file)))
+		check(strconv.Itoa(many)+" bytes", data, more)
+		data[0] = 0
+		check(strconv.Itoa(many)+" other bytes", data, other)
+		check(strconv.Itoa(many)+" bytes of 0", make([]byte, many), other)
 	}
+}
+
+// checkCutFile asks a reader of files for the error of a file cut at each byte, and of bytes behind it.
+func checkCutFile(file []byte, check func(what string, data []byte, err int)) {
+	for many := range file {
+		check("cut to "+strconv.Itoa(many), file[:many], impl.ErrShort)
+	}
+	for _, more := range [][]byte{{0}, {255}, {0, 0}, {255, 0}, {255, 208}, {255, 217}, file[:4], make([]byte, 300)} {
+		check("more", slices.Concat(file, more), impl.ErrMore)
+	}
+}
+
+func TestDecodePhotoOfTooManyBytes(t *testing.T) {
+	checkTooMany(t, impl.EncodePhoto(smallPhoto()), func(what string, data []byte, err int) {
+		checkPhotoFile(t, what, data, err)
+	})
 }
 
 // checkFirstBytes asks a reader of files for the error of other first bytes than a file's four, and of fewer.
@@ -1148,12 +1165,7 @@ func TestDecodePhotoOfFilesCutAtEachByte(t *testing.T) {
 			p.Planes[i] = somePhotoSamples(r, p.Width, p.Height)
 		}
 		file := impl.EncodePhoto(p)
-		for many := range file {
-			checkPhotoFile(t, "cut to "+strconv.Itoa(many), file[:many], impl.ErrShort)
-		}
-		for _, more := range [][]byte{{0}, {255}, {255, 0}, {255, 208}, {255, 217}, make([]byte, 300)} {
-			checkPhotoFile(t, "more", slices.Concat(file, more), impl.ErrMore)
-		}
+		checkCutFile(file, func(what string, data []byte, err int) { checkPhotoFile(t, what, data, err) })
 	}
 }
 
